@@ -132,7 +132,7 @@ func (x *Directory) readEpoch(b []byte) bool {
 			return false
 		}
 	}
-	x.epochs = x.with(epoch{key, index, x.waiting, x.root(x.waiting)})
+	x.epochs = x.with(epoch{key, index, x.root(x.waiting)}, x.waiting)
 	x.waiting = nil
 	return true
 }

@@ -214,7 +214,17 @@ func TestOpenOfWhatIsNotAsDescribed(t *testing.T) { // P21.1
 	short, _ := pack.Row(pack.Number(0, 7), pack.Number(0, 8))
 	alone, _ := pack.Row(pack.Number(0, 8))
 	odd, _ := pack.Row(pack.Number(0, 8), pack.Number(0, 8), []byte{0, 1})
+	parts := func(l ...[]byte) []byte {
+		b, _ := pack.Row(l...)
+		row, _ := pack.Row(pack.Number(0, 8), pack.Number(0, 8), b)
+		return prefixed(row)
+	}
+	name, one := []byte("a"), pack.Number(1, 8)
 	for what, area := range map[string][]byte{
+		"a change of no texts":   parts(),
+		"a change of two texts":  parts(name, one),
+		"a change of four texts": parts(name, one, live("x"), nil),
+		"a version of one byte":  parts(name, []byte{1}, live("x")),
 		"three bytes":            {0, 0, 0},
 		"a length alone":         {0, 0, 0, 1},
 		"too long a record":      append(pack.Number(1<<32-1, 4), make([]byte, 60)...),

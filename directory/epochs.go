@@ -28,7 +28,6 @@ type change struct {
 // epoch is an epoch.
 type epoch struct {
 	key, index int
-	changes    []change
 	tree       api.Digest // the root of its entries
 }
 
@@ -43,10 +42,10 @@ func (x epochs) count() int {
 	return len(x.list)
 }
 
-// with returns the epochs with one more.
-func (x epochs) with(next epoch) epochs {
+// with returns the epochs with one more, and its changes.
+func (x epochs) with(next epoch, changes []change) epochs {
 	x.list = append(slices.Clip(x.list), next)
-	x.all = append(slices.Clip(x.all), next.changes...)
+	x.all = append(slices.Clip(x.all), changes...)
 	return x
 }
 

@@ -228,8 +228,69 @@ func TestVerifyWrongForms(t *testing.T) { // P11.3, P11.4, R1
 	}
 }
 
-// TestVerifyALayerAtATime: a signature of one layer, with the lower tree's root as its digest, is none of the whole key.
-func TestVerifyALayerAtATime(t *testing.T) { // P11.3
+// forged returns a key with that root, and a signature by the secret, with that index and a part for
+// each list of siblings: all sums are right, but not all numbers.
+func forged(s api.Shape, index, levels int, auth ...[]api.Digest) (api.Public, api.Sig) {
+	var leaves, numbers []uint64
+	rest := uint64(index)
+	for range auth {
+		leaves = append(leaves, rest%(1<<levels))
+		rest >>= levels
+		numbers = append(numbers, rest)
+	}
+	var tops []api.Digest
+	for i := range auth {
+		root, path, _ := tree.Build(secret, uint32(i), numbers[i], levels, int(leaves[i]))
+		if auth[i] == nil {
+			auth[i] = path
+		} else {
+			leaf := tree.Leaf(secret, uint32(i), numbers[i], int(leaves[i]))
+			root, _ = tree.Climb(leaf, auth[i], int(leaves[i]), secret.Pub, uint32(i), numbers[i])
+		}
+		tops = append(tops, root)
+	}
+	p := api.Public{Shape: s, Root: tops[len(tops)-1], Pub: secret.Pub}
+	sig := api.Sig{Index: index, R: api.Digest{5}}
+	digest := keyed.Message(sig.R, p.Root, uint64(index), text)
+	for i, root := range tops {
+		ots := wots.Sign(digest, secret.Seed, secret.Pub, adrs.Ots(uint32(i), numbers[i], uint32(leaves[i])))
+		sig.Parts = append(sig.Parts, api.Part{Ots: ots, Auth: auth[i]})
+		digest = root
+	}
+	return p, sig
+}
+
+func TestVerifyWhatIsForged(t *testing.T) { // P11.3
+	two := []api.Digest{{1}, {2}}
+	for i, c := range []struct {
+		shape         api.Shape
+		index, levels int
+		auth          [][]api.Digest
+		want          bool
+	}{
+		{shape(1, 2), 1, 2, [][]api.Digest{nil}, true},
+		{shape(2, 2), 6, 2, [][]api.Digest{nil, nil}, true},
+		{shape(1, 2), 1, 2, [][]api.Digest{two}, true},
+		{shape(2, 2), 1, 2, [][]api.Digest{nil}, false},       // fewer parts
+		{shape(1, 2), 1, 2, [][]api.Digest{nil, nil}, false},  // more parts
+		{shape(1, 2), 4, 2, [][]api.Digest{nil}, false},       // no index of the shape
+		{shape(1, 2), 5, 2, [][]api.Digest{nil}, false},       // no index of the shape
+		{shape(2, 2), 16, 2, [][]api.Digest{nil, nil}, false}, // no index of the shape
+		{shape(1, 2), -3, 2, [][]api.Digest{nil}, false},      // below 0
+		{shape(1, 2), 1, 2, [][]api.Digest{{{1}, {2}, {3}}}, false},
+		{shape(1, 2), 1, 2, [][]api.Digest{{{1}}}, false},
+		{shape(2, 2), 5, 2, [][]api.Digest{{{1}, {2}, {3}}, nil}, false},
+		{shape(2, 2), 5, 2, [][]api.Digest{nil, {{1}}}, false},
+		{shape(5, 1), 1, 1, [][]api.Digest{nil, nil, nil, nil, nil}, false},
+	} {
+		if p, sig := forged(c.shape, c.index, c.levels, c.auth...); hyper.Verify(p, sig, text) != c.want {
+			t.Errorf("case %d", i)
+		}
+	}
+}
+
+// TestVerifyOfAnotherShape: it has as many indices, but others are their ways.
+func TestVerifyOfAnotherShape(t *testing.T) { // P11.3
 	p := key(t, shape(1, 2))
 	sig := sign(t, p, 3)
 	if !hyper.Verify(p, sig, text) {
@@ -237,7 +298,7 @@ func TestVerifyALayerAtATime(t *testing.T) { // P11.3
 	}
 	p.Shape = shape(2, 1)
 	if hyper.Verify(p, sig, text) {
-		t.Error("another shape with as many indices")
+		t.Error("another shape")
 	}
 }
 
